@@ -1,0 +1,1 @@
+"""Lamplight: a lamp carried through a house without rings."""

@@ -1,0 +1,170 @@
+"""Houses for the tests, any objects, and what carryings are by going through all of them one by one."""
+
+import random
+from itertools import combinations, product
+
+from lamplight.errors import BadRooms, LampError
+from lamplight.houses import House, beside
+
+EXAMPLE = House(["a", "b", "c", "d"], [("a", "b"), ("b", "c"), ("b", "d")])
+ONE_ROOM = House(["a"], [])
+TWO_ROOMS = House(["a", "b"], [("a", "b")])
+SPIDER = House(
+    ["b1", "a1", "c", "a2", "b2", "a3", "b3"],
+    [("c", "a1"), ("c", "a2"), ("c", "a3"), ("a1", "b1"), ("a2", "b2"), ("a3", "b3")],
+)
+
+
+def any_objects():
+    """Things of each kind that the document calls any object, none of them of use to the tests' houses."""
+    return [
+        0, 1, 7, -1, 10 ** 20, True, False, "", "zz", "A", "a ", "a\n", "dark", None,
+        [], (), ["zz"], ("a", 3), [["a"]], [None], {}, {"zz": 1}, {1: 2}, {"a": "a"},
+        lambda *rest: None, len, beside, House(["zz"], []), EXAMPLE, LampError(), BadRooms(0),
+    ]
+
+
+def no_functions():
+    return [thing for thing in any_objects() if not callable(thing)]
+
+
+def rows(house):
+    return {room: sorted({o for d in house.doors() for o in d if room in d and o != room}) for room in house.rooms()}
+
+
+def row_house(names):
+    return House(names, list(zip(names, names[1:])))
+
+
+def star_house(names):
+    return House(names, [(names[0], name) for name in names[1:]])
+
+
+def random_house(names, seed):
+    dice = random.Random(seed)
+    return House(names, [(names[dice.randrange(k)], names[k]) for k in range(1, len(names))])
+
+
+def all_houses(names):
+    """All houses with these rooms: of all lots of doors those that join them."""
+    pairs = list(combinations(sorted(names), 2))
+    told = []
+    for doors in combinations(pairs, len(names) - 1):
+        try:
+            told.append(House(names, doors))
+        except LampError:
+            continue
+    return told
+
+
+def small_houses():
+    """All houses of up to three rooms, and of four and five rooms one or two of each shape."""
+    told = [house for many in (1, 2, 3) for house in all_houses(["a", "b", "c"][:many])]
+    told += [row_house(list("abcd")), row_house(list("cadb")), EXAMPLE, star_house(list("dabc"))]
+    return told
+
+
+def five_room_houses():
+    forked = House(list("abcde"), [("c", "a"), ("c", "e"), ("c", "b"), ("b", "d")])
+    return [row_house(list("bdaec")), star_house(list("cabde")), forked]
+
+
+def great_houses():
+    names = [f"r{k}" for k in range(60)]
+    told = [row_house(names), star_house(names), random_house(names, 1), random_house(names, 2)]
+    told.append(three_arms((21, 19, 19)))
+    return told
+
+
+def three_arms(lengths):
+    """A middle room, and three rows of so many rooms."""
+    doors = []
+    for arm, length in zip("xyz", lengths):
+        names = ["m"] + [f"{arm}{k}" for k in range(length)]
+        doors += list(zip(names, names[1:]))
+    return House(["m"] + [far for _, far in doors], doors)
+
+
+def walks(house, hours):
+    """All carryings of so many hours, as tuples, ascending."""
+    near = rows(house)
+    told = [(room,) for room in house.rooms()]
+    for _ in range(hours - 1):
+        told = [walk + (room,) for walk in told for room in sorted(near[walk[-1]] + [walk[-1]])]
+    return told
+
+
+def walks_to(house, most):
+    return [walk for hours in range(1, most + 1) for walk in walks(house, hours)]
+
+
+def hours_row(house, walk):
+    return tuple(walk.count(room) for room in house.rooms())
+
+
+def by_ledgers(house, most):
+    """A dict from the rows of hours of all carryings of at most so many hours to these, ascending."""
+    told = {}
+    for walk in walks_to(house, most):
+        told.setdefault(hours_row(house, walk), []).append(walk)
+    return told
+
+
+def ledger_rows(house, most):
+    """The rows of hours of all ledgers of at most so many hours, ascending."""
+    return [row for row in product(range(most + 1), repeat=len(house)) if 0 < sum(row) <= most]
+
+
+def as_ledger(house, row):
+    return dict(zip(house.rooms(), row))
+
+
+def reached_rows(house, most):
+    """The rows of hours of all carryings of at most so many hours, by which of them can be gone on with where."""
+    near = rows(house)
+    names = house.rooms()
+    last = {(room, tuple(int(name == room) for name in names)) for room in names}
+    told = {row for _, row in last}
+    for _ in range(most - 1):
+        further = set()
+        for room, row in last:
+            for other in near[room] + [room]:
+                at = names.index(other)
+                further.add((other, row[:at] + (row[at] + 1,) + row[at + 1:]))
+        last = further
+        told |= {row for _, row in last}
+    return told
+
+
+def walk_between(house, one, other):
+    """The way from one to other, by trying all rows of unlike rooms."""
+    near = rows(house)
+    trials = [[one]]
+    while trials:
+        trial = trials.pop()
+        if trial[-1] == other:
+            return trial
+        trials += [trial + [room] for room in near[trial[-1]] if room not in trial]
+    raise AssertionError("no way")
+
+
+def all_ways(house):
+    return [walk_between(house, one, other) for one in house.rooms() for other in house.rooms()]
+
+
+def lie_on_one_way(house, some):
+    return any(set(some) <= set(rooms) for rooms in all_ways(house))
+
+
+def papers(house, ledger):
+    """All papers against a ledger, by their definition."""
+    near = rows(house)
+    lit = [room for room in house.rooms() if ledger[room]]
+    less = {room: len([o for o in near[room] if o in lit]) - 1 for room in lit}
+    told = []
+    for one, other in combinations(lit, 2):
+        told += [("dark", one, room, other) for room in walk_between(house, one, other) if room not in lit]
+    told += [("lacks", room) for room in lit if ledger[room] < less[room]]
+    short = [room for room in lit if ledger[room] == less[room]]
+    told += [("apart",) + three for three in combinations(short, 3) if not lie_on_one_way(house, three)]
+    return told

@@ -1,0 +1,54 @@
+"""The interface: names, arguments and files."""
+
+import importlib
+import inspect
+import unittest
+
+FUNCTIONS = {
+    "houses": ["beside(house, room)"],
+    "ways": ["way(house, one, other)", "least_way(house, some)", "meeting(house, one, other, third)",
+             "behind(house, room, other)"],
+    "carryings": ["is_carrying(house, thing)", "stays(house, carrying)", "passes(house, carrying)",
+                  "first_lit(house, carrying)", "stays_by(house, counted, first, last)"],
+    "ledgers": ["is_ledger(house, thing)", "ledger_of(house, carrying)", "lit_rooms(house, ledger)",
+                "lit_parts(house, ledger)", "lit_house(house, ledger)"],
+    "otherhouses": ["part_of(house, some)", "built_on(house, room, name)", "joined_by(one, other, room, far)",
+                    "renamed(house, names)"],
+    "onelaw": ["lacking_rooms(house, ledger)", "short_rooms(house, ledger)", "holds(house, ledger)",
+               "paper_of(house, ledger)", "is_paper(house, ledger, thing)", "claim_fault(house, ledger, thing)"],
+    "goingon": ["first_carrying(house, ledger)", "next_rooms(house, ledger, begun)", "lost_at(house, ledger, begun)"],
+    "lighters": ["run_lighter(house, ledger, lighter)", "beat_near(reach, lighter)",
+                 "judge_fault(house, judge, hours)"],
+}
+
+
+class InterfaceTest(unittest.TestCase):
+    def test_functions(self):
+        for file, signatures in FUNCTIONS.items():
+            module = importlib.import_module(f"lamplight.{file}")
+            for signature in signatures:
+                name = signature.split("(")[0]
+                function = getattr(module, name)
+                self.assertTrue(inspect.isfunction(function))
+                self.assertEqual(name + str(inspect.signature(function)), signature)
+                self.assertEqual(function.__module__, f"lamplight.{file}")
+
+    def test_the_class(self):
+        from lamplight.houses import House
+
+        self.assertEqual(str(inspect.signature(House)), "(rooms, doors)")
+        self.assertEqual(House.__module__, "lamplight.houses")
+        for method in ("rooms", "doors", "__len__", "__eq__"):
+            self.assertIn(method, vars(House))
+
+    def test_by_keywords(self):
+        from lamplight.houses import House, beside
+        from lamplight.ways import way
+
+        house = House(doors=[("a", "b")], rooms=["a", "b"])
+        self.assertEqual(beside(room="a", house=house), ["b"])
+        self.assertEqual(way(other="a", one="b", house=house), ["b", "a"])
+
+
+if __name__ == "__main__":
+    unittest.main()
