@@ -11,14 +11,7 @@ from lamplight.ways import on_way_from
 def first_carrying(house, ledger):
     if not holds(house, ledger):
         return None
-    left = all_left(house, ledger)
-    rooms = []
-    ahead = None
-    for _ in range(sum([left[room] for room in left])):
-        ahead = first_going_on(house, left, ahead)
-        left[ahead] -= 1
-        rooms.append(ahead)
-    return rooms
+    return first_rest(house, all_left(house, ledger), None)
 
 
 def next_rooms(house, ledger, begun):
@@ -73,6 +66,19 @@ def first_going_on(house, left, ahead):
         if can_go_on(house, left, room):
             return room
     return None
+
+
+def first_rest(house, left, ahead):
+    """Tell the first row of rooms that uses all that is left behind the room ahead, None at first, where there is one.
+
+    What is left is used up by it.
+    """
+    rooms = []
+    for _ in range(sum([left[room] for room in left])):
+        ahead = first_going_on(house, left, ahead)
+        left[ahead] -= 1
+        rooms.append(ahead)
+    return rooms
 
 
 def begun_fault(house, ledger, begun):

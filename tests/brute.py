@@ -69,11 +69,23 @@ def five_room_houses():
     return [row_house(list("bdaec")), star_house(list("cabde")), forked]
 
 
-def great_houses():
-    names = [f"r{k}" for k in range(60)]
+def great_houses(many=60):
+    names = [f"r{k}" for k in range(many)]
     told = [row_house(names), star_house(names), random_house(names, 1), random_house(names, 2)]
-    told.append(three_arms((21, 19, 19)))
+    arm = (many - 1) // 3
+    told.append(three_arms((many - 1 - 2 * arm, arm, arm)))
     return told
+
+
+def great_ledger(house, hours):
+    """A ledger of so many hours in all, each room having its doors and what is over shared out unevenly."""
+    ledger = {room: len(near) for room, near in rows(house).items()}
+    names = house.rooms()
+    at = 0
+    while sum(ledger.values()) < hours:
+        ledger[names[at % len(names)]] += 1
+        at += 7 if at % 3 else 1
+    return ledger
 
 
 def three_arms(lengths):
@@ -96,6 +108,46 @@ def walks(house, hours):
 
 def walks_to(house, most):
     return [walk for hours in range(1, most + 1) for walk in walks(house, hours)]
+
+
+def carryings_of(house, ledger):
+    """All carryings with a ledger, as tuples, ascending."""
+    near = {room: sorted(others + [room]) for room, others in rows(house).items()}
+    hours = sum(ledger.values())
+    left = dict(ledger)
+    told = []
+
+    def go_on(walk):
+        if len(walk) == hours:
+            told.append(tuple(walk))
+            return
+        for room in near[walk[-1]] if walk else house.rooms():
+            if left[room]:
+                left[room] -= 1
+                go_on(walk + [room])
+                left[room] += 1
+
+    go_on([])
+    return told
+
+
+def moves(walk):
+    return sum(one != other for one, other in zip(walk, walk[1:]))
+
+
+def random_ledgers(seed, many, rooms, hours):
+    """Pairs of a house of some rooms and a ledger that lights all of them, most of them some carrying's."""
+    dice = random.Random(seed)
+    told = []
+    while len(told) < many:
+        names = [f"{sign}{k}" for k, sign in enumerate("hgfedcba"[:dice.choice(rooms)])]
+        house = random_house(names, dice.randrange(10 ** 6))
+        ledger = {room: max(1, len(near) - 1) for room, near in rows(house).items()}
+        for _ in range(hours - sum(ledger.values())):
+            ledger[dice.choice(names)] += 1
+        if sum(ledger.values()) <= hours:
+            told.append((house, ledger))
+    return told
 
 
 def hours_row(house, walk):
