@@ -54,13 +54,8 @@ def some_ledger(house, box):
 
 def can_light(house, box):
     need_box(house, box)
-    if find_fault(house, box, find_needed(house, box, [])) is not None:
-        return []
-    told = []
-    for room in house.rooms():
-        if find_fault(house, box, find_needed(house, box, [room])) is None:
-            told.append(room)
-    return told
+    # More needed rooms never mend a fault, so with one there is none that can be lit.
+    return [room for room in house.rooms() if find_fault(house, box, find_needed(house, box, [room])) is None]
 
 
 def is_box(house, thing):

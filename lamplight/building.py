@@ -36,19 +36,14 @@ def gone_again(counted, rooms):
     return more
 
 
-def carrying_by(house, hours, counted, first, last, early, late):
-    """Tell a carrying from first to last with these hours and passes.
-
-    The leavings of a room begin with those of early and end with those of late, where these tell some. A room other
-    than last is left at last towards last: so what late tells of it must end with that, too.
-    """
+def carrying_by(house, hours, counted, first, last, early):
+    """Tell a carrying from first to last with these hours and passes; early tells of some rooms the first leavings."""
     steps = towards(house, last)
     lists = {}
     for room in house.rooms():
-        tail = [steps[room]] if room != last else []
-        lists[room] = put_in_order(
-            leavings_by(house, hours, counted, first, room), early.get(room, []), late.get(room, tail)
-        )
+        # A room other than last is left at last towards last.
+        late = [steps[room]] if room != last else []
+        lists[room] = put_in_order(leavings_by(house, hours, counted, first, room), early.get(room, []), late)
     return go_by(lists, first)
 
 

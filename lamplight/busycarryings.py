@@ -2,25 +2,23 @@
 
 from lamplight.building import carrying_by, least_passes
 from lamplight.ends import find_ends, find_needs
-from lamplight.ledgers import find_lit, need_ledger
+from lamplight.ledgers import find_lit
 from lamplight.onelaw import holds
 from lamplight.otherhouses import part_with
 from lamplight.ways import doors_off, towards
 
 
 def stillest(house, ledger):
-    need_ledger(house, ledger)
     if not holds(house, ledger):
         return None
     lit = part_with(house, find_lit(house, ledger))
     off = {first: doors_off(lit, first) for first in lit.rooms()}
     # Doors on the way from first to last are gone through once, all others twice.
     first, last = max(find_ends(lit, ledger), key=lambda pair: off[pair[0]][pair[1]])
-    return carrying_by(lit, ledger, least_passes(lit, first, last), first, last, {}, {})
+    return carrying_by(lit, ledger, least_passes(lit, first, last), first, last, {})
 
 
 def busiest(house, ledger):
-    need_ledger(house, ledger)
     if not holds(house, ledger):
         return None
     lit = part_with(house, find_lit(house, ledger))
@@ -32,14 +30,14 @@ def busiest(house, ledger):
         if best is None or through > best[0]:
             best = (through, first, last)
     _, first, last = best
-    return carrying_by(lit, ledger, most_passes(lit, ledger, steps, first, last), first, last, {}, {})
+    return carrying_by(lit, ledger, most_passes(lit, ledger, steps, first, last), first, last, {})
 
 
 def most_passes(house, hours, steps, first, last):
     """Tell the passes of a carrying from first to last that goes through doors most often.
 
-    From the leaves inward each door is gone through again as often as both its rooms have hours over: hours that are
-    over farther out are of use for this door alone.
+    From the leaves inward each door is gone through again as often as both its rooms have hours over: for what the
+    outer one has over behind its other doors there is no use but this.
     """
     wanted = find_needs(house, first, last)
     over = {room: hours[room] - wanted[room] for room in wanted}
@@ -48,7 +46,6 @@ def most_passes(house, hours, steps, first, last):
         step = steps[room]
         if step is not None:
             more = min(over[room], over[step])
-            over[room] -= more
             over[step] -= more
             counted[(room, step)] += more
             counted[(step, room)] += more

@@ -19,7 +19,7 @@ def carrying_between(house, ledger, first, last):
     need_ends(house, ledger, first, last)
     if first_lack(house, ledger, first, last) is not None:
         return None
-    return carrying_by(house, ledger, least_passes(house, first, last), first, last, {}, {})
+    return carrying_by(house, ledger, least_passes(house, first, last), first, last, {})
 
 
 def lacking(house, ledger, first, last):

@@ -20,7 +20,7 @@ def least_ledgers(house):
 
 def shortest_carrying(house):
     first, last = outer_ends(house, house.rooms())
-    return carrying_by(house, find_needs(house, first, last), least_passes(house, first, last), first, last, {}, {})
+    return carrying_by(house, find_needs(house, first, last), least_passes(house, first, last), first, last, {})
 
 
 def ledgers_with(house, hours):

@@ -70,7 +70,7 @@ def are_entries(house, room, thing):
     if not is_row(thing):
         return False
     there = house.near(room) + [room]
-    return all([isinstance(entry, str) and entry in there for entry in thing])
+    return all([entry in there for entry in thing])
 
 
 def places_of(carrying, room):

@@ -50,13 +50,9 @@ def carrying_lit(house, ledger, first, last, room, when):
         raise BadWhen(when)
     if first_lack(house, ledger, first, last) is not None:
         return None
-    if when == "soon":
+    # A room off the way is lit in one go with what lies behind it, one on the way is done as soon as can be anyway.
+    if when in ("soon", "done soon"):
         return lit_soon(house, ledger, first, last, room)
-    if when == "late":
-        return lit_late(house, ledger, first, last, room)
-    # What is lit last soon is, turned about, lit first late.
-    if when == "done soon":
-        return lit_late(house, ledger, last, first, room)[::-1]
     return lit_soon(house, ledger, last, first, room)[::-1]
 
 
@@ -87,7 +83,7 @@ def light_span(house, hours, steps, beyond, last, room):
     through = climb(steps, last)[::-1]
     path = climb(steps, room)[::-1]
     over = over_needs(house, hours, through)
-    return (soonest(through, over, beyond, path)[0], latest(through, over, beyond, path)[0])
+    return (soonest(through, over, beyond, path)[0], latest(through, over, beyond, path))
 
 
 def hours_beyond(hours, steps):
@@ -146,18 +142,16 @@ def soonest(through, over, beyond, path):
 
 
 def latest(through, over, beyond, path):
-    """Tell the greatest hour of first light at the end of path, and the place to which the lamp has been ahead."""
+    """Tell the greatest hour of first light at the end of path."""
     at = parting(through, path)
     off = len(path) - 1 - at
     hour = beyond[through[0]] - beyond[path[-1]]
     if off == 0:
-        return (hour, at)
+        return hour
+    # Behind the room the lamp comes back to the way, and goes on to where it has not been, or to the last hour.
     sides = [beyond[room] for room in through] + [0]
-    trials = []
-    for place in thrice_to(over, at, list(range(at + 1, len(through)))):
-        trials.append((place - at + sides[place + 1], place))
-    fewest, place = min(trials)
-    return (hour - off - fewest, place)
+    rest = [place - at + sides[place + 1] for place in thrice_to(over, at, list(range(at + 1, len(through))))]
+    return hour - off - min(rest)
 
 
 def lit_soon(house, hours, first, last, room):
@@ -167,20 +161,4 @@ def lit_soon(house, hours, first, last, room):
     _, place = soonest(through, over_needs(house, hours, through), hours_beyond(hours, steps), path)
     counted = gone_again(least_passes(house, first, last), through[place:parting(through, path) + 1])
     early = {path[at]: [path[at + 1]] for at in range(place, len(path) - 1)}
-    return carrying_by(house, hours, counted, first, last, early, {})
-
-
-def lit_late(house, hours, first, last, room):
-    steps = towards(house, first)
-    through = climb(steps, last)[::-1]
-    path = climb(steps, room)[::-1]
-    _, place = latest(through, over_needs(house, hours, through), hours_beyond(hours, steps), path)
-    at = parting(through, path)
-    counted = gone_again(least_passes(house, first, last), through[at:place + 1])
-    # Where the lamp goes back, all else there is done: ahead on the way, then towards the room.
-    late = {}
-    for index in range(at + 1, place + 1):
-        late[through[index]] = [through[index - 1]] + through[index + 1:index + 2]
-    for index in range(at, len(path) - 1):
-        late[path[index]] = [path[index + 1]] + (through[at + 1:at + 2] if index == at else [path[index - 1]])
-    return carrying_by(house, hours, counted, first, last, {}, late)
+    return carrying_by(house, hours, counted, first, last, early)

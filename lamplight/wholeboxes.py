@@ -10,7 +10,7 @@ def base_hours(house, box, room):
 
 def tight_rooms(house, box):
     """Tell the rooms that can have no more than their doors less one, ascending."""
-    return [room for room in house.rooms() if len(house) > 1 and box[room][1] == len(house.near(room)) - 1]
+    return [room for room in house.rooms() if box[room][1] == len(house.near(room)) - 1]
 
 
 def gain_rooms(house, box):
@@ -47,7 +47,7 @@ def worthiest_end(house, worth, start):
     total = {}
     for room in steps:
         total[room] = worth[room] + (0 if room == start else total[steps[room]])
-    return max(total, key=lambda room: total[room])
+    return max(total, key=lambda end: total[end])
 
 
 def short_in_some(house, box):

@@ -69,6 +69,7 @@ def wrong_ledgers(ledger):
     for room in ledger:
         told += [{**ledger, room: wrong} for wrong in (-1, True, None, "1", [1])]
         told.append({name: ledger[name] for name in ledger if name != room})
+        told.append({name if name != room else "zz": ledger[name] for name in ledger})
     told += [{**ledger, "zz": 1}, {room: 0 for room in ledger}, list(ledger.items()), list(ledger)]
     return told
 

@@ -22,6 +22,7 @@ def wrong_boxes(box):
         for wrong in [(1,), (1, 2, 3), (2, 1), (-1, 2), (True, 2), (0, True), ("0", 2), (0, None), None, "ab", 2, {}]:
             told.append({**box, room: wrong})
         told.append({name: box[name] for name in box if name != room})
+        told.append({name if name != room else "zz": box[name] for name in box})
     told += [{**box, "zz": (0, 1)}, {room: (0, 0) for room in box}, list(box.items())]
     return told
 
@@ -206,6 +207,9 @@ class BoxesTest(Checks):
         arms = three_arms((9, 10, 10))
         told = some_ledger(arms, {room: (1, 100) for room in arms.rooms()})
         self.assertEqual(sum(told.values()), 2 * 29 - (9 + 9 + 1))
+        # The longest way goes through y and z, but z's rooms can never have fewer hours than doors.
+        told = some_ledger(arms, {room: (2 if room[0] == "z" else 1, 100) for room in arms.rooms()})
+        self.assertEqual(sum(told.values()), 2 * 29 + 1 - (8 + 9 + 1))
 
 
 if __name__ == "__main__":

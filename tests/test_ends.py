@@ -5,6 +5,7 @@ from itertools import combinations
 
 from lamplight.ends import back_at, barred, carrying_between, count_ends, ends, lacking, lasts, needs
 from lamplight.errors import BadLedger, NoRoom
+from lamplight.houses import House
 from lamplight.onelaw import claim_fault
 from tests.brute import (EXAMPLE, ONE_ROOM, TWO_ROOMS, as_ledger, by_ledgers, carryings_of, five_room_houses,
                          great_houses, great_ledger, ledger_rows, random_ledgers, row_house, rows, small_houses,
@@ -117,6 +118,16 @@ class EndsTest(Checks):
         self.assertEqual(barred(house, {**ledger, "z0": 2}, "x1"), None)
         self.assertEqual(barred(house, {**ledger, "m": 1}, "x1"), ("less", "m"))
         self.assertEqual(barred(house, {**ledger, "m": 2}, "m"), ("short", "m"))
+
+    def test_the_first_room_with_less(self):
+        doors = [("y", "x")] + [(room, room + at) for room in "xy" for at in "012"]
+        house = House(["y", "x"] + [far for _, far in doors[1:]], doors)
+        ledger = {room: 1 for room in house.rooms()}
+        self.assertEqual(barred(house, ledger, "y0"), ("less", "x"))
+        self.assertEqual(barred(house, {**ledger, "x": 3}, "x"), ("less", "y"))
+        self.assertEqual(barred(house, {**ledger, "x": 3, "y": 3}, "x"), ("short", "x"))
+        self.assertEqual(lacking(house, ledger, "y0", "y1"), ("x", 1, 4))
+        self.assertEqual(lacking(house, {**ledger, "x": 9}, "y0", "y1"), ("y", 1, 3))
 
     def test_errors(self):
         right = {"a": 1, "b": 2, "c": 1, "d": 1}

@@ -104,6 +104,8 @@ class LeastLedgersTest(Checks):
             inner = [room for room in house.rooms() if len(rows(house)[room]) > 1]
             outer = [room for room in inner if sum(near in inner for near in rows(house)[room]) <= 1]
             told = least_ledgers(house)
+            hours = [list(ledger.values()) for ledger in told]
+            self.assertEqual(hours, sorted(hours))
             self.assertEqual(len(told), len(outer) * (len(outer) - 1) // 2 if len(outer) > 1 else 1)
             self.assertTrue(all(holds(house, ledger) for ledger in told))
             ways = {tuple(room for room in inner if ledger[room] < len(rows(house)[room])) for ledger in told}

@@ -114,6 +114,7 @@ class LeavingsTest(Checks):
         self.check_error(BadCarrying, {"index": 1}, leavings, EXAMPLE, ["a", "c"])
         right = {"a": ["b"], "b": ["a"], "c": [], "d": []}
         wrong = any_objects() + [{**right, "e": []}, {"a": [], "b": [], "c": []}, {**right, "c": ["d"]}]
+        wrong += [{"a": [], "b": [], "c": [], "e": []}, list("abcd")]
         for thing in any_objects():
             wrong.append({**right, "d": [thing]})
             if thing not in ([], ()):

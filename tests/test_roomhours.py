@@ -108,8 +108,13 @@ class RoomHoursTest(Checks):
         arms = three_arms((9, 10, 10))
         box = {room: (1, 100) for room in arms.rooms()}
         self.assertEqual(sums_between(arms, box)[0], 2 * 29 - (9 + 9 + 1))
+        hard = {room: (2 if room[0] == "z" else 1, 100) for room in arms.rooms()}
+        self.assertEqual(sums_between(arms, hard)[0], 2 * 29 + 1 - (8 + 9 + 1))
         box["x7"] = (1, 1)
         self.assertEqual(sums_between(arms, box)[0], 2 * 29 - (8 + 9 + 1))
+        # One tight room is worth more than all gain rooms of the others.
+        alone = {**{room: (2 if room[0] == "x" else 1, 100) for room in arms.rooms()}, "x7": (1, 1)}
+        self.assertEqual(sums_between(arms, alone)[0], 2 * 29 + 1 - (1 + 9 + 1))
         self.assertEqual(len(shortness(arms, box)[1]), 8 + 9 + 9 + 1)
         box["y8"] = (1, 1)
         self.assertEqual(len(shortness(arms, box)[1]), 8 + 9 + 1)
