@@ -85,10 +85,10 @@ def exchanged(carrying, places):
 
 
 def find_ranks(house, one, other):
-    """Tell of each room where the entries of its leavings by one stand by other, None if these lead to one another not.
+    """Tell of each room where the entries of its leavings by one stand by other, first of a kind by first.
 
-    The first entry of a kind is led to the first, the second to the second. That leavings and first rooms are alike
-    but for their order is just that ledgers, passes and first rooms are.
+    Told is None where no exchanges lead from one to other: if ledgers, passes or first rooms are unlike, which is so
+    just if first rooms are, or leavings by more than their order.
     """
     if one[0] != other[0]:
         return None
