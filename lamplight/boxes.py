@@ -1,7 +1,8 @@
 """Boxes: hours that are not known for sure, and the possible ledgers in them."""
 
-from lamplight.errors import BadBox, BadNumber
-from lamplight.kinds import is_number, is_row
+from lamplight.errors import BadBox
+from lamplight.houses import is_by_rooms
+from lamplight.kinds import is_number, is_row, need_positive
 from lamplight.ledgers import is_ledger, need_ledger
 from lamplight.onelaw import first_apart, holds
 from lamplight.otherhouses import part_with
@@ -21,8 +22,7 @@ def is_possible(house, box, thing):
 def wiped(house, ledger, some, most):
     need_ledger(house, ledger)
     need_some(house, some)
-    if not is_number(most) or most == 0:
-        raise BadNumber(most)
+    need_positive(most)
     return {room: (0, most) if room in some else (ledger[room], ledger[room]) for room in house.rooms()}
 
 
@@ -60,9 +60,7 @@ def can_light(house, box):
 
 def is_box(house, thing):
     """Tell of any object whether it is a dict from just all rooms to pairs of least and most hours, not all 0."""
-    if not isinstance(thing, dict) or len(thing) != len(house):
-        return False
-    if not all([room in thing and is_span(thing[room]) for room in house.rooms()]):
+    if not is_by_rooms(house, thing) or not all([is_span(thing[room]) for room in thing]):
         return False
     return any([thing[room][1] > 0 for room in thing])
 

@@ -6,7 +6,7 @@ from lamplight.errors import BadLedger
 from lamplight.houses import need_room
 from lamplight.ledgers import is_ledger
 from lamplight.onelaw import find_lacking, find_short, spare_hours
-from lamplight.ways import climb, towards
+from lamplight.ways import climb, towards, way_between
 
 
 def needs(house, first, last):
@@ -73,7 +73,7 @@ def need_ends(house, ledger, first, last):
 
 
 def find_needs(house, first, last):
-    between = climb(towards(house, last), first)[1:-1]
+    between = way_between(house, first, last)[1:-1]
     told = {}
     for room in house.rooms():
         told[room] = len(house.near(room))

@@ -96,6 +96,11 @@ def leader_of(leaders, room):
     return room
 
 
+def is_by_rooms(house, thing):
+    """Tell of any object whether it is a dict from just all rooms."""
+    return isinstance(thing, dict) and len(thing) == len(house) and all([room in thing for room in house.rooms()])
+
+
 def rooms_by_doors(rooms, doors):
     """Tell of each room the rooms beside it, ascending as rooms and doors are."""
     near = {room: [] for room in rooms}

@@ -25,6 +25,11 @@ def is_number(thing):
     return isinstance(thing, int) and not isinstance(thing, bool) and thing >= 0
 
 
+def is_positive(thing):
+    """Tell of any object whether it is an integer from 1 on."""
+    return is_number(thing) and thing > 0
+
+
 def is_function(thing):
     # What can be called cannot be told straight, so all else that may be passed is ruled out.
     if thing is None or isinstance(thing, (int, str, bytes, list, tuple, dict)):
@@ -34,4 +39,9 @@ def is_function(thing):
 
 def need_number(thing):
     if not is_number(thing):
+        raise BadNumber(thing)
+
+
+def need_positive(thing):
+    if not is_positive(thing):
         raise BadNumber(thing)

@@ -5,7 +5,7 @@ from math import comb
 from lamplight.building import carrying_by, least_passes
 from lamplight.ends import find_needs
 from lamplight.kinds import need_number
-from lamplight.ways import climb, doors_off, outer_ends, towards
+from lamplight.ways import doors_off, outer_ends, way_between
 
 
 def least_ledgers(house):
@@ -50,7 +50,7 @@ def least_ways(house):
     outer = [room for room in inner if len([other for other in house.near(room) if other in inner]) == 1]
     told = []
     for one, other in combinations(outer, 2):
-        told.append(climb(towards(house, other), one))
+        told.append(way_between(house, one, other))
     return told
 
 

@@ -3,7 +3,7 @@
 from lamplight.building import go_by
 from lamplight.carryings import need_carrying
 from lamplight.errors import BadLeavings
-from lamplight.houses import need_room
+from lamplight.houses import is_by_rooms, need_room
 from lamplight.kinds import is_row
 
 
@@ -61,9 +61,7 @@ def find_leavings(house, carrying):
 
 def are_leavings(house, thing):
     """Tell of any object whether it is a dict from just all rooms to lists of rooms, each the same or beside it."""
-    if not isinstance(thing, dict) or len(thing) != len(house):
-        return False
-    return all([room in thing and are_entries(house, room, thing[room]) for room in house.rooms()])
+    return is_by_rooms(house, thing) and all([are_entries(house, room, thing[room]) for room in thing])
 
 
 def are_entries(house, room, thing):

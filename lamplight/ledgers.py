@@ -2,15 +2,13 @@
 
 from lamplight.carryings import need_carrying
 from lamplight.errors import BadLedger, NotJoined
-from lamplight.houses import first_parted, reach
+from lamplight.houses import first_parted, is_by_rooms, reach
 from lamplight.kinds import is_number
 from lamplight.otherhouses import part_with
 
 
 def is_ledger(house, thing):
-    if not isinstance(thing, dict) or len(thing) != len(house):
-        return False
-    if not all([room in thing and is_number(thing[room]) for room in house.rooms()]):
+    if not is_by_rooms(house, thing) or not all([is_number(thing[room]) for room in thing]):
         return False
     return any([thing[room] > 0 for room in thing])
 
@@ -27,14 +25,7 @@ def lit_rooms(house, ledger):
 
 def lit_parts(house, ledger):
     need_ledger(house, ledger)
-    lit = find_lit(house, ledger)
-    parts = []
-    for room in lit:
-        part = reach(house, room, lit)
-        # Each part is told once, by its least room.
-        if part[0] == room:
-            parts.append(part)
-    return parts
+    return find_parts(house, ledger)
 
 
 def lit_house(house, ledger):
@@ -62,3 +53,15 @@ def hours_of(house, rooms):
 def find_lit(house, hours):
     """Tell the rooms with hours, ascending."""
     return [room for room in house.rooms() if hours[room] > 0]
+
+
+def find_parts(house, hours):
+    """Tell the greatest lists of rooms with hours, ascending, between which doors lead through such rooms alone."""
+    lit = find_lit(house, hours)
+    parts = []
+    for room in lit:
+        part = reach(house, room, lit)
+        # Each part is told once, by its least room.
+        if part[0] == room:
+            parts.append(part)
+    return parts

@@ -5,7 +5,7 @@ from lamplight.carryings import carrying_fault
 from lamplight.houses import reach
 from lamplight.kinds import is_row
 from lamplight.ledgers import find_lit, hours_of, need_ledger
-from lamplight.ways import climb, doors_off, has_all, on_one_way, towards
+from lamplight.ways import climb, doors_off, has_all, on_one_way, towards, way_between
 
 
 def lacking_rooms(house, ledger):
@@ -118,7 +118,7 @@ def is_dark_between(house, ledger, rooms):
     one, between, other = rooms
     if ledger[one] == 0 or ledger[other] == 0 or one >= other:
         return False
-    return ledger[between] == 0 and between in climb(towards(house, other), one)
+    return ledger[between] == 0 and between in way_between(house, one, other)
 
 
 def is_apart(house, short, rooms):

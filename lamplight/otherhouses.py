@@ -1,7 +1,7 @@
 """Houses made of other houses."""
 
 from lamplight.errors import BadName, BadNames, BadSome, CommonRoom, NotJoined
-from lamplight.houses import House, first_parted, need_room
+from lamplight.houses import House, first_parted, is_by_rooms, need_room
 from lamplight.kinds import is_name
 from lamplight.ways import need_some
 
@@ -47,8 +47,6 @@ def part_with(house, some):
 
 def are_names(house, thing):
     """Tell of any object whether it is a dict from just all rooms to unlike names."""
-    if not isinstance(thing, dict) or len(thing) != len(house):
-        return False
-    if not all([room in thing and is_name(thing[room]) for room in house.rooms()]):
+    if not is_by_rooms(house, thing) or not all([is_name(thing[room]) for room in thing]):
         return False
     return len(set(list(thing.values()))) == len(house)

@@ -26,8 +26,12 @@ def sums_between(house, box):
     return (least, sum([box[room][1] for room in house.rooms()]))
 
 
-def need_whole(house, box):
+def need_lit_box(house, box):
     if not is_box(house, box) or any([box[room][0] == 0 for room in box]):
         raise BadBox(box)
+
+
+def need_whole(house, box):
+    need_lit_box(house, box)
     if find_fault(house, box, house.rooms()) is not None:
         raise NotPossible()

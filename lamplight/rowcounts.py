@@ -2,7 +2,7 @@
 
 from itertools import combinations
 from lamplight.errors import BadHours
-from lamplight.kinds import is_number
+from lamplight.kinds import is_positive
 
 
 def count_lighting(house, hours):
@@ -22,7 +22,7 @@ def count_rows(house, hours):
 
 
 def need_hours(thing):
-    if not is_number(thing) or thing == 0:
+    if not is_positive(thing):
         raise BadHours(thing)
 
 

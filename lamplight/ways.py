@@ -1,5 +1,6 @@
 """Ways through a house: from room to room without turning back."""
 
+from itertools import combinations
 from lamplight.errors import BadSome, NoDoor
 from lamplight.houses import need_room, reach
 from lamplight.kinds import is_row
@@ -8,7 +9,7 @@ from lamplight.kinds import is_row
 def way(house, one, other):
     need_room(house, one)
     need_room(house, other)
-    return climb(towards(house, other), one)
+    return way_between(house, one, other)
 
 
 def least_way(house, some):
@@ -16,7 +17,7 @@ def least_way(house, some):
     if len(some) == 0:
         return []
     one, other = outer_ends(house, some)
-    rooms = climb(towards(house, max(one, other)), min(one, other))
+    rooms = way_between(house, min(one, other), max(one, other))
     return rooms if has_all(rooms, some) else None
 
 
@@ -78,6 +79,31 @@ def climb(steps, room):
     return rooms
 
 
+def way_between(house, one, other):
+    """Tell what way tells, of what are known to be rooms."""
+    return climb(towards(house, other), one)
+
+
+def leaf_pairs(house):
+    """Tell all pairs of leaves, one ahead of other, ascending: of one room alone it twice."""
+    leaves = [room for room in house.rooms() if len(house.near(room)) < 2]
+    if len(leaves) == 1:
+        return [(leaves[0], leaves[0])]
+    return list(combinations(leaves, 2))
+
+
+def leaf_ways(house):
+    """Tell the ways between all pairs of leaves, in the order of these: every way is part of one of them."""
+    return [way_between(house, one, other) for one, other in leaf_pairs(house)]
+
+
+def pairs_inward(house):
+    """Tell all pairs (room, one beside it), each behind the pairs that lead on from its second room."""
+    steps = towards(house, house.rooms()[0])
+    outward = [room for room in steps if steps[room] is not None]
+    return [(steps[room], room) for room in reversed(outward)] + [(room, steps[room]) for room in outward]
+
+
 def doors_off(house, root):
     """Tell of each room how many doors it is off root."""
     steps = towards(house, root)
@@ -108,11 +134,11 @@ def on_one_way(house, some):
     if len(some) == 0:
         return True
     one, other = outer_ends(house, some)
-    return has_all(climb(towards(house, one), other), some)
+    return has_all(way_between(house, one, other), some)
 
 
 def on_way_from(house, room, some):
     """Tell whether rooms lie on a way that begins at room."""
     if len(some) == 0:
         return True
-    return has_all(climb(towards(house, room), outermost(house, room, some)), some)
+    return has_all(way_between(house, room, outermost(house, room, some)), some)

@@ -1,6 +1,6 @@
 """Houses all of whose rooms are to be lit, with hours from a least to a most: what their doors ask of them."""
 
-from lamplight.ways import climb, on_one_way, towards
+from lamplight.ways import on_one_way, towards, way_between
 
 
 def base_hours(house, box, room):
@@ -38,7 +38,7 @@ def worthiest_way(house, worth):
     """Tell a way whose rooms have most worth together, none having less than 0."""
     one = worthiest_end(house, worth, house.rooms()[0])
     other = worthiest_end(house, worth, one)
-    return climb(towards(house, one), other)
+    return way_between(house, one, other)
 
 
 def worthiest_end(house, worth, start):

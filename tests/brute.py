@@ -220,3 +220,73 @@ def papers(house, ledger):
     short = [room for room in lit if ledger[room] == less[room]]
     told += [("apart",) + three for three in combinations(short, 3) if not lie_on_one_way(house, three)]
     return told
+
+
+def reached_ends(house, most):
+    """The rows of hours of all carryings of at most so many hours, by the pairs of first and last rooms that they have."""
+    near = rows(house)
+    names = house.rooms()
+    ahead = {(room, room, tuple(int(name == room) for name in names)) for room in names}
+    told = {}
+    for _ in range(most):
+        further = set()
+        for first, room, row in ahead:
+            told.setdefault(row, set()).add((first, room))
+            for other in near[room] + [room]:
+                at = names.index(other)
+                further.add((first, other, row[:at] + (row[at] + 1,) + row[at + 1:]))
+        ahead = further
+    return told
+
+
+def reached_passes(house, most, door):
+    """The rows of hours of all carryings of at most so many hours, by how often these go through a door."""
+    near = rows(house)
+    names = house.rooms()
+    ahead = {(room, tuple(int(name == room) for name in names), 0) for room in names}
+    told = {}
+    for _ in range(most):
+        further = set()
+        for room, row, many in ahead:
+            told.setdefault(row, set()).add(many)
+            for other in near[room] + [room]:
+                at = names.index(other)
+                through = many + (sorted((room, other)) == sorted(door))
+                further.add((other, row[:at] + (row[at] + 1,) + row[at + 1:], through))
+        ahead = further
+    return told
+
+
+def full_rows(house, most):
+    """The rows of hours, of at most so many in all, of the carryings that light all rooms, ascending."""
+    return sorted(row for row in reached_rows(house, most) if 0 not in row)
+
+
+def full_cases(seed, many):
+    """Triples of a house, a ledger, and the rows of all full ledgers of hours enough to make it full by each way."""
+    dice = random.Random(seed)
+    houses = [(house, 12) for house in small_houses() + five_room_houses()] + [(SPIDER, 13)]
+    there = {id(house): full_rows(house, hours) for house, hours in houses}
+    told = []
+    while len(told) < many:
+        house, hours = dice.choice(houses)
+        near = rows(house)
+        ledger = {room: dice.choice([0, 0, 1, 1, 1, 2, 2, 3, 5]) for room in house.rooms()}
+        if any(ledger.values()) and sum(max(1, len(near[room]), ledger[room]) for room in near) <= hours:
+            told.append((house, ledger, there[id(house)]))
+    return told
+
+
+def fewest_rows(house, most, carried):
+    """By the rows of hours, of at most so many in all, that are sums of some carried rows: of how few at least."""
+    told = {}
+    ahead = {row for row in carried if sum(row) <= most}
+    many = 1
+    while ahead:
+        for row in ahead:
+            told[row] = many
+        further = {tuple(a + b for a, b in zip(one, other)) for one in ahead for other in carried
+                   if sum(one) + sum(other) <= most}
+        ahead = {row for row in further if row not in told}
+        many += 1
+    return told

@@ -80,3 +80,13 @@ def dark_ledgers(ledger):
 
 def no_rooms():
     return [thing for thing in any_objects() if thing != "a"]
+
+
+def wrong_prices(prices):
+    """Things that are no dict from the rooms of a right one to integers from 1 on."""
+    return wrong_ledgers(prices) + dark_ledgers(prices)
+
+
+def no_numbers(least):
+    """Things that are no integer from a least one on."""
+    return [thing for thing in any_objects() + [least - 1] if type(thing) is not int or thing < least]

@@ -38,6 +38,21 @@ FUNCTIONS = {
     "boxes": ["is_possible(house, box, thing)", "wiped(house, ledger, some, most)", "needed_rooms(house, box)",
               "box_fault(house, box)", "some_ledger(house, box)", "can_light(house, box)"],
     "roomhours": ["room_hours(house, box, room)", "shortness(house, box)", "sums_between(house, box)"],
+    "prices": ["least_price(house, box, prices)", "dear_way(house, box, prices)",
+               "heights(house, box, prices, number)", "are_heights(house, box, prices, number, thing)"],
+    "lots": ["ledger_with(house, box, lots, sums)", "lots_fault(house, box, lots, sums)"],
+    "boxcounts": ["count_possible(house, box)", "kth_possible(house, box, number)", "index_of(house, box, ledger)"],
+    "boxends": ["box_ends(house, box)", "door_passes(house, box, one, other)"],
+    "added": ["is_full(house, thing)", "wanted_hours(house, ledger)", "fewest_added(house, ledger)",
+              "all_added(house, ledger)", "cheapest_added(house, ledger, prices)"],
+    "pricepapers": ["price_paper(house, ledger, prices, budget)",
+                    "is_price_paper(house, ledger, prices, budget, thing)"],
+    "moved": ["least_sum(house)", "fewest_moved(house, ledger)", "moved_ledger(house, ledger)",
+              "change_table(house, ledger)"],
+    "taken": ["most_taken(house, ledger)", "least_below(house, ledger)", "fewest_rooms(house, ledger)",
+              "strength(house, ledger)", "weak_spots(house, ledger)", "mending_doors(house, ledger)"],
+    "severallamps": ["is_lamp_rows(house, ledger, thing)", "lamps_wanted(house, ledger)",
+                     "lamp_rows(house, ledger, number)", "branch_asks(house, ledger)"],
 }
 
 
