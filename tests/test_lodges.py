@@ -1,5 +1,6 @@
 """[67], and [71] on it: several lamps that all begin in one room."""
 
+import random
 import unittest
 
 from lamplight.carryings import is_carrying
@@ -7,7 +8,7 @@ from lamplight.errors import BadLedger, BadNumber, NoRoom
 from lamplight.houses import House
 from lamplight.lodges import lodge_leads, lodge_rows, lodge_short, lodge_wanted
 from tests.brute import (EXAMPLE, ONE_ROOM, SPIDER, TWO_ROOMS, as_ledger, fewest_rows, five_room_houses, great_houses,
-                         great_ledger, ledger_rows, reached_ends, row_house, rows, small_houses,
+                         great_ledger, ledger_rows, random_house, reached_ends, row_house, rows, small_houses,
                          star_house, walk_between)
 from tests.checks import Checks, no_numbers, no_rooms, wrong_ledgers
 
@@ -114,6 +115,28 @@ class LodgesTest(Checks):
         # Behind the lodge of b there is a, behind which d has too few hours.
         self.assertEqual(lodge_short(house, {**ones, "a": 2}, "b"), "d")
         self.assertEqual(lodge_short(house, {**ones, "a": 2, "d": 2}, "b"), None)
+
+    def test_which_is_first_short(self):
+        """That it is the first room whose own branch fails even from a lodge of many hours, while those behind go."""
+        dice = random.Random(67)
+        for seed in range(300):
+            house = random_house(list("dhbfaceg"), seed)
+            ledger = {room: dice.choice([1, 1, 1, 2, 2, 3]) for room in house.rooms()}
+            lodge = dice.choice(house.rooms())
+            goes = {room: self.branch_goes(house, ledger, lodge, room) for room in house.rooms()}
+            goes[lodge] = lodge_wanted(house, ledger, lodge) is not None
+            short = [room for room in house.rooms() if not goes[room]]
+            outer = [room for room in short if not any(room in walk_between(house, lodge, far)
+                                                       for far in short if far != room)]
+            self.assertEqual(lodge_short(house, ledger, lodge), min(outer, default=None), (house.doors(), ledger, lodge))
+
+    def branch_goes(self, house, ledger, lodge, room):
+        if room == lodge:
+            return True
+        ahead = walk_between(house, lodge, room)[-2]
+        part = [far for far in house.rooms() if room in walk_between(house, lodge, far)]
+        hours = {far: ledger[far] if far in part else 0 for far in ledger}
+        return lodge_wanted(house, {**hours, ahead: 99}, ahead) is not None
 
     def test_dark_rooms(self):
         row = row_house(list("abcde"))
