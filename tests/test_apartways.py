@@ -123,7 +123,8 @@ class ApartWaysTest(Checks):
         self.check_number(star_house([f"r{k}" for k in range(30)]), 20, 2)
         # Six threes, each with a way through it, hung in a row by their middles.
         doors = [(f"m{k}", f"{far}{k}") for k in range(6) for far in "xy"]
-        comb = House([f"{far}{k}" for far in "mxy" for k in range(6)], doors + [(f"m{k}", f"m{k + 1}") for k in range(5)])
+        doors += [(f"m{k}", f"m{k + 1}") for k in range(5)]
+        comb = House([f"{far}{k}" for far in "mxy" for k in range(6)], doors)
         self.check_number(comb, 6, 12)
         self.check_number(comb, 1, 7)
         self.check_number(comb, 3, 9)

@@ -17,7 +17,7 @@ CALLS = (lodge_wanted, lodge_leads, lodge_short)
 
 
 def fewest_ending(most, pieces, some):
-    """By the rows of hours of all sums of pieces, of at most so many hours: how few of these at least end in some rooms.
+    """By the rows of hours of all sums of pieces, of at most so many hours: how few of these end in some rooms.
 
     Pieces are told by their rows of hours, with the last rooms that they can have.
     """
@@ -128,7 +128,7 @@ class LodgesTest(Checks):
             short = [room for room in house.rooms() if not goes[room]]
             outer = [room for room in short if not any(room in walk_between(house, lodge, far)
                                                        for far in short if far != room)]
-            self.assertEqual(lodge_short(house, ledger, lodge), min(outer, default=None), (house.doors(), ledger, lodge))
+            self.assertEqual(lodge_short(house, ledger, lodge), min(outer, default=None))
 
     def branch_goes(self, house, ledger, lodge, room):
         if room == lodge:

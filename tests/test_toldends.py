@@ -116,7 +116,8 @@ class ToldEndsTest(Checks):
         self.assertEqual(rows_between(row, {"a": 2, "b": 2, "c": 1, "d": 0, "e": 0}, [("c", "a"), ("a", "b")]),
                          [["c", "b", "a"], ["a", "b"]])
         # The last but one chooses inward, the last one it.
-        self.assertEqual(bare_choices(row, {"a": 1, "b": 1, "c": 2, "d": 2, "e": 1}, [["a", "c"]]), {"d": "c", "e": "d"})
+        told = bare_choices(row, {"a": 1, "b": 1, "c": 2, "d": 2, "e": 1}, [["a", "c"]])
+        self.assertEqual((told, list(told)), ({"d": "c", "e": "d"}, ["d", "e"]))
         self.assertIsNone(bare_choices(row, {"a": 1, "b": 1, "c": 1, "d": 2, "e": 2}, [["a", "c"]]))
 
     def test_few_rooms(self):
