@@ -72,8 +72,7 @@ def can_go_on(house, left, order):
 
 
 def doors_on(house, order):
-    """Tell of the rooms on ways from an order's last one to those that it has not, how many doors these ways have there.
-    """
+    """Tell, for the ways from an order's last room to those that it has not, how many doors each room on them has."""
     steps = towards(house, order[-1])
     doors = {}
     for room in reversed(list(steps)):

@@ -14,7 +14,7 @@ END = "end"
 THROUGH = "through"
 INSIDE = "inside"
 # How many ends of the way of all short rooms a branch has by its word.
-ENDS = {FREE: 0, END: 1, THROUGH: 2, INSIDE: 2}
+ENDS = {"free": 0, "end": 1, "through": 2, "inside": 2}
 
 
 class Branch(PackageObject):

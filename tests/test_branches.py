@@ -35,10 +35,12 @@ def word_by_ways(house, rim, hours):
 def small_branches(most):
     """Branches of at most four rooms of some shapes, with one hour to so many in each room."""
     told = []
-    for house in [ONE_ROOM, TWO_ROOMS, row_house(list("abc")), row_house(list("bac")), EXAMPLE, row_house(list("abcd"))]:
+    houses = [row_house(list("abc")), row_house(list("bac")), row_house(list("abcd"))]
+    for house in houses + [ONE_ROOM, TWO_ROOMS, EXAMPLE]:
         for rim in house.rooms():
             others = [room for room in house.rooms() if room != rim]
-            told += [Branch(house, rim, dict(zip(others, row))) for row in product(range(1, most + 1), repeat=len(others))]
+            lots = product(range(1, most + 1), repeat=len(others))
+            told += [Branch(house, rim, dict(zip(others, row))) for row in lots]
     return told
 
 

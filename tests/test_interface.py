@@ -53,7 +53,30 @@ FUNCTIONS = {
               "strength(house, ledger)", "weak_spots(house, ledger)", "mending_doors(house, ledger)"],
     "severallamps": ["is_lamp_rows(house, ledger, thing)", "lamps_wanted(house, ledger)",
                      "lamp_rows(house, ledger, number)", "branch_asks(house, ledger)"],
+    "lodges": ["lodge_rows(house, ledger, room, number)", "lodge_wanted(house, ledger, room)",
+               "lodge_leads(house, ledger, room)", "lodge_short(house, ledger, room)"],
+    "roundlamps": ["round_wanted(house, ledger)", "round_rows(house, ledger, number)"],
+    "toldends": ["rows_between(house, ledger, ends)", "bare_choices(house, ledger, ends)"],
+    "apartways": ["apart_ways(house, number)", "hours_for(house, number)", "ledger_for(house, number)"],
+    "orders": ["is_order(house, thing)", "order_of(house, carrying)", "runs_behind(house, order, room)",
+               "order_needs(house, order)", "order_fault(house, ledger, order)",
+               "carrying_in_order(house, ledger, order)"],
+    "orderends": ["ends_of_order(house, ledger, order)", "carrying_to(house, ledger, order, last)",
+                  "ends_by_light(house, ledger)"],
+    "begun": ["begins(house, ledger, order)", "gone_on(house, ledger, order)", "next_lit(house, ledger, order)"],
+    "ordercounts": ["orders_of(house, ledger)", "count_orders(house, ledger)",
+                    "order_numbered(house, ledger, number)", "order_number(house, ledger, order)",
+                    "count_all(house)", "lit_ahead(house, ledger, room, other)"],
+    "lighthours": ["last_lit(house, carrying)", "hours_fault(house, hours)", "carrying_by_hours(house, hours)",
+                   "carrying_with(house, ledger, hours)"],
+    "branches": ["hung(branches, hours)", "cut_off(house, ledger, room, other)", "word_of(branch)",
+                 "added_word(words)", "asks(branch)", "goes(branches, hours)"],
 }
+
+CLASSES = [
+    ("houses", "House", "(rooms, doors)", ["rooms", "doors", "__len__", "__eq__"]),
+    ("branches", "Branch", "(house, rim, hours)", ["parts", "__eq__"]),
+]
 
 
 class InterfaceTest(unittest.TestCase):
@@ -67,13 +90,13 @@ class InterfaceTest(unittest.TestCase):
                 self.assertEqual(name + str(inspect.signature(function)), signature)
                 self.assertEqual(function.__module__, f"lamplight.{file}")
 
-    def test_the_class(self):
-        from lamplight.houses import House
-
-        self.assertEqual(str(inspect.signature(House)), "(rooms, doors)")
-        self.assertEqual(House.__module__, "lamplight.houses")
-        for method in ("rooms", "doors", "__len__", "__eq__"):
-            self.assertIn(method, vars(House))
+    def test_classes(self):
+        for file, name, signature, methods in CLASSES:
+            each = getattr(importlib.import_module(f"lamplight.{file}"), name)
+            self.assertEqual(str(inspect.signature(each)), signature)
+            self.assertEqual(each.__module__, f"lamplight.{file}")
+            for method in methods:
+                self.assertIn(method, vars(each))
 
     def test_by_keywords(self):
         from lamplight.houses import House, beside
