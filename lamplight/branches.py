@@ -74,7 +74,7 @@ def word_of(branch):
 
 def added_word(words):
     need_words(words)
-    others = sorted([word for word in words if word != FREE])
+    others = [word for word in words if word != FREE]
     if len(others) == 0:
         return FREE
     if others == [END, END]:

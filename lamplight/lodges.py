@@ -80,40 +80,39 @@ def find_leads(inside, hours, lodge):
 
 def lead_of(many, behind):
     """Tell the lead of a room by its hours and the leads of its branches, None if the hours are too few."""
-    if sum(behind) == 0:
-        spare = many - len(behind)
-        return None if spare < 0 else 0 if spare > 0 else 1
     wanted = sum([max(lead, 1) for lead in behind])
-    return sum(behind) if many >= wanted else None
+    if many < wanted:
+        return None
+    if sum(behind) > 0:
+        return sum(behind)
+    return 1 if many == wanted else 0
 
 
 def least_rows(inside, hours, lodge, leads):
     """Tell rows for as few lamps as can be, without the hours that are waited."""
     steps = towards(inside, lodge)
-    coming = {lodge: max(leads[lodge], 1)}
+    # Whether some lamp ends in a room's branch: to the other branches one goes and comes back.
+    ended = {lodge: True}
     lasts = []
     again = []
     for room in steps:
         behind = [other for other in inside.near(room) if other != steps[room]]
         for other in behind:
-            coming[other] = leads[other]
-        if coming[room] > 0 and sum([leads[other] for other in behind]) == 0:
-            # One lamp alone comes here with nothing that leads it on.
+            ended[other] = leads[other] > 0
+        if not ended[room]:
+            again.append((steps[room], room))
+        elif not any([ended[other] for other in behind]):
+            # One lamp alone comes here, and ends here if the hours let it come back from all branches.
             if hours[room] > len(behind):
                 lasts.append(room)
             else:
-                coming[behind[0]] = 1
-        if coming[room] == 0:
-            again.append((steps[room], room))
-    ways = [climb(steps, last)[::-1] for last in lasts]
-    return there_and_back(ways, again)
+                ended[behind[0]] = True
+    return there_and_back([climb(steps, last)[::-1] for last in lasts], again)
 
 
 def cut_at(rows, lodge, number):
     """Tell so many rows, by cutting ahead of hours in the lodge, None if that cannot be."""
     cuts = number - len(rows)
-    if cuts < 0:
-        return None
     told = []
     for row in rows:
         told.append([row[0]])

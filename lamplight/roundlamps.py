@@ -69,8 +69,6 @@ def least_rows(inside, hours):
 def split_off(rows, number):
     """Tell so many rows, by splitting single hours off, None if there are more rows, or fewer hours."""
     missing = number - len(rows)
-    if missing < 0:
-        return None
     told = []
     for row in rows:
         left = list(row)

@@ -8,8 +8,8 @@ from lamplight.branches import Branch, added_word, asks, cut_off, goes, hung, wo
 from lamplight.errors import BadBranch, BadBranches, BadHours, BadLedger, BadNumber, BadRim, BadWords, NoDoor, NoRoom
 from lamplight.houses import House
 from lamplight.onelaw import holds
-from tests.brute import (EXAMPLE, ONE_ROOM, SPIDER, TWO_ROOMS, all_ways, any_objects, five_room_houses, great_houses,
-                         random_house, reached_rows, row_house, rows, small_houses, star_house, walk_between)
+from tests.brute import (EXAMPLE, ONE_ROOM, SPIDER, TWO_ROOMS, all_ways, any_objects, great_houses, random_house,
+                         reached_rows, row_house, rows, star_house, walk_between)
 from tests.checks import Checks, dark_ledgers, no_numbers, no_rooms, wrong_ledgers
 
 FORK = House(list("rxyz"), [("r", "x"), ("x", "y"), ("x", "z")])
