@@ -4,6 +4,7 @@ import unittest
 
 from lamplight.boxends import box_ends, door_passes
 from lamplight.errors import BadBox, NoDoor, NoRoom, NotPossible
+from lamplight.houses import House
 from tests.brute import (EXAMPLE, ONE_ROOM, SPIDER, TWO_ROOMS, five_room_houses, great_houses, reached_ends,
                          reached_passes, rows, small_houses)
 from tests.checks import Checks, no_rooms
@@ -53,6 +54,19 @@ class BoxEndsTest(Checks):
                     self.assertEqual(door_passes(house, box, other, one), expected)
                     told += 1
         self.assertGreater(told, 500)
+
+    def test_doors_on_no_way(self):
+        """Of tight rooms b and d, each way between first and last rooms has both, and never the door to x."""
+        house = House(list("abmdex"), [("a", "b"), ("b", "m"), ("m", "d"), ("d", "e"), ("m", "x")])
+        box = {**{room: (1, 1) for room in "abde"}, "m": (3, 5), "x": (1, 2)}
+        reached = {door: reached_passes(house, 11, door) for door in house.doors()}
+        for one, other in house.doors():
+            possible = [row for row in reached[(one, other)]
+                        if all(box[room][0] <= hours <= box[room][1] for room, hours in zip(house.rooms(), row))]
+            expected = sorted({many for row in possible for many in reached[(one, other)][row]})
+            self.assertEqual(door_passes(house, box, one, other), expected)
+        self.assertEqual(door_passes(house, box, "m", "x"), [2, 4])
+        self.assertEqual(door_passes(house, box, "a", "b"), [1])
 
     def test_few_rooms(self):
         self.assertEqual(box_ends(ONE_ROOM, {"a": (1, 1)}), [("a", "a")])
