@@ -1,12 +1,15 @@
 """[49]: the possible ledgers of a box, counted and numbered."""
 
+import random
 import unittest
+from itertools import product
 
 from lamplight.boxcounts import count_possible, index_of, kth_possible
 from lamplight.boxes import is_possible
 from lamplight.errors import BadBox, BadIndex, BadLedger
-from tests.brute import (EXAMPLE, ONE_ROOM, TWO_ROOMS, any_objects, as_ledger, great_houses, rows, star_house,
-                         three_arms)
+from lamplight.onelaw import holds
+from tests.brute import (EXAMPLE, ONE_ROOM, TWO_ROOMS, any_objects, as_ledger, great_houses, random_house, rows,
+                         star_house, three_arms)
 from tests.checks import Checks, no_numbers, wrong_ledgers
 from tests.test_boxes import random_boxes, wrong_boxes
 
@@ -32,6 +35,23 @@ class BoxCountsTest(Checks):
                     self.assertEqual(index_of(house, box, ledger), number)
                 self.check_error(BadIndex, {"thing": len(possible)}, kth_possible, house, box, len(possible))
         self.assertGreater(none, 50)
+
+    def test_more_rooms(self):
+        """Boxes near to what doors ask for, in houses with short rooms on ways of all kinds past the least room."""
+        dice = random.Random(49)
+        for seed in range(60):
+            house = random_house(list("hgfedcba") if seed % 2 else list("cadgbhef"), seed)
+            box = {}
+            for room, near in rows(house).items():
+                least = max(1, len(near) - dice.choice((1, 1, 1, 2)))
+                box[room] = (least, least + (dice.choice((0, 1, 1, 2)) if len(near) > 1 else 0))
+            lots = product(*[range(least, most + 1) for least, most in box.values()])
+            possible = [row for row in lots if holds(house, as_ledger(house, row))]
+            self.assertEqual(count_possible(house, box), len(possible), (house.doors(), box))
+            for number in range(0, len(possible), 1 + len(possible) // 9):
+                ledger = as_ledger(house, possible[number])
+                self.assertEqual(kth_possible(house, box, number), ledger)
+                self.assertEqual(index_of(house, box, ledger), number)
 
     def test_boxes_that_let_nothing(self):
         self.assertEqual(count_possible(EXAMPLE, NONE), 0)
