@@ -109,6 +109,13 @@ def is_hours_but(house, rim, thing):
     return all([room in thing and is_positive(thing[room]) for room in others])
 
 
+def is_to_hang(thing):
+    """Tell of any object whether it is a pair of a list of branches, perhaps none, and hours from 1 on."""
+    if not is_row(thing) or len(thing) != 2 or not is_row(thing[0]):
+        return False
+    return all([isinstance(branch, Branch) for branch in thing[0]]) and is_positive(thing[1])
+
+
 def need_branch(thing):
     if not isinstance(thing, Branch):
         raise BadBranch(thing)

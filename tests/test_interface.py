@@ -71,11 +71,28 @@ FUNCTIONS = {
                    "carrying_with(house, ledger, hours)"],
     "branches": ["hung(branches, hours)", "cut_off(house, ledger, room, other)", "word_of(branch)",
                  "added_word(words)", "asks(branch)", "goes(branches, hours)"],
+    "alikebranches": ["surrounding(one, other)", "is_surrounding(one, other, thing)",
+                      "least_branch(ends, rim_hours)"],
+    "branchrows": ["rows_of(branch)", "count_apart(one, other)"],
+    "boxed": ["word_counts(boxed)", "least_hours(boxed)", "going_count(boxed, branches, hours)",
+              "box_apart(one, other)", "is_box_apart(one, other, thing)"],
+    "vectors": ["added_counts(one, other)", "raised_counts(vector, doors, least, most)",
+                "whole_count(vector, doors, least, most)"],
+    "twins": ["are_twins(one, other)", "parting_ledger(one, other)", "bare_hours(house)", "bad_threes(house)",
+              "pieces_of(house)", "plain_twin(house)", "twin_count(house)"],
+    "keepers": ["told_back(rooms, keeper)"],
+    "records": ["fitting(rooms, records)", "sure_doors(rooms, records)", "possible_doors(rooms, records)",
+                "hours_between(rooms, records)", "record_clash(rooms, records)"],
+    "askers": ["questions_left(rooms, records)", "best_question(rooms, records)",
+               "beat_asker(rooms, records, asker, many)"],
+    "entrystamps": ["entries(house, carrying)", "stamps(house, carrying)", "unused_door(house, marks)",
+                    "first_by_entries(house, marks)", "lasts_by_stamps(house, marks)"],
 }
 
 CLASSES = [
     ("houses", "House", "(rooms, doors)", ["rooms", "doors", "__len__", "__eq__"]),
     ("branches", "Branch", "(house, rim, hours)", ["parts", "__eq__"]),
+    ("boxed", "Boxed", "(house, rim, box)", ["parts", "__eq__"]),
 ]
 
 
