@@ -188,7 +188,14 @@ class LanguageTest(unittest.TestCase):
         for name, node in nodes(ast.Raise):
             self.assertIsInstance(node.exc, ast.Call, name)
             self.assertEqual(node.exc.keywords, [], name)
-        self.assertEqual(nodes(ast.Try), [])
+
+    def test_nothing_is_caught(self):
+        """A try has a finally alone, which puts back what its function had in variables."""
+        for name, node in nodes(ast.Try):
+            self.assertEqual((node.handlers, node.orelse), ([], []), name)
+            for row in node.finalbody:
+                self.assertIsInstance(row, ast.Assign, name)
+                self.assertIsInstance(row.value, ast.Name, name)
 
 
 if __name__ == "__main__":
