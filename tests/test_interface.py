@@ -87,12 +87,32 @@ FUNCTIONS = {
                "beat_asker(rooms, records, asker, many)"],
     "entrystamps": ["entries(house, carrying)", "stamps(house, carrying)", "unused_door(house, marks)",
                     "first_by_entries(house, marks)", "lasts_by_stamps(house, marks)"],
+    "stamped": ["ends_by_stamps(house, ledger, marks)", "stamped_carrying(house, ledger, marks)",
+                "ends_by_all(house, ledger, marks, counted)"],
+    "doorcounts": ["counters(house, carrying)", "odd_rooms(house, counted)", "counted_ends(house, counted)",
+                   "ends_by_counters(house, ledger, counted)", "counted_carrying(house, ledger, counted)"],
+    "somecounted": ["possible_counters(house, ledger, known, door)", "moves_between(house, ledger, first, last)",
+                    "possible_moves(house, ledger)"],
+    "leavingbooks": ["books_of(house, carrying)", "read_from(house, books, first)", "book_ends(house, books)"],
+    "endchances": ["drawn_by(house, ledger, chooser)", "ends_chances(house, ledger)", "first_chances(house, ledger)",
+                   "door_chances(house, ledger, one, other)", "mean_passes(house, ledger)",
+                   "stay_chances(house, ledger, place)", "mean_stays(house, ledger)"],
+    "hourchances": ["hour_chances(house, ledger, hour)", "room_chances(house, ledger, place)"],
+    "lightchances": ["light_chances(house, ledger, place)", "mean_light(house, ledger)",
+                     "ahead_chance(house, ledger, one, other)"],
+    "seenchances": ["seen_chance(house, ledger, seen)", "hour_given(house, ledger, seen, hour)",
+                    "last_given(house, ledger, seen)"],
+    "homesteadtexts": ["write_homestead(homestead)", "read_homestead(text)"],
 }
 
 CLASSES = [
-    ("houses", "House", "(rooms, doors)", ["rooms", "doors", "__len__", "__eq__"]),
-    ("branches", "Branch", "(house, rim, hours)", ["parts", "__eq__"]),
-    ("boxed", "Boxed", "(house, rim, box)", ["parts", "__eq__"]),
+    ("houses", "House", "(rooms, doors)", ["rooms()", "doors()", "__len__()", "__eq__(other)"]),
+    ("branches", "Branch", "(house, rim, hours)", ["parts()", "__eq__(other)"]),
+    ("boxed", "Boxed", "(house, rim, box)", ["parts()", "__eq__(other)"]),
+    ("homesteads", "Homestead", "(name)", [
+        "now()", "book()", "lamp()", "watched()", "do(deed)", "is_question(thing)", "answer(question)", "would(deed)",
+        "mending_rooms()", "count()", "undo()", "again()", "deeds()", "at(number)", "copy()", "trial(work)",
+        "__eq__(other)"]),
 ]
 
 
@@ -113,15 +133,9 @@ class InterfaceTest(unittest.TestCase):
             self.assertEqual(str(inspect.signature(each)), signature)
             self.assertEqual(each.__module__, f"lamplight.{file}")
             for method in methods:
-                self.assertIn(method, vars(each))
-
-    def test_by_keywords(self):
-        from lamplight.houses import House, beside
-        from lamplight.ways import way
-
-        house = House(doors=[("a", "b")], rooms=["a", "b"])
-        self.assertEqual(beside(room="a", house=house), ["b"])
-        self.assertEqual(way(other="a", one="b", house=house), ["b", "a"])
+                name, rest = method[:-1].split("(")
+                self.assertIn(name, vars(each))
+                self.assertEqual(list(inspect.signature(vars(each)[name]).parameters), ["self"] + rest.split())
 
 
 if __name__ == "__main__":
