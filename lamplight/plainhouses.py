@@ -13,7 +13,8 @@ def find_bare(house):
 
 def find_threes(house):
     """Tell, ascending, the triples of inner rooms that lie on no one way."""
-    return [three for three in combinations(inner_rooms(house), 3) if not on_one_way(house, three)]
+    inner = inner_rooms(house)
+    return [three for three in combinations(inner, 3) if not on_one_way(house, three)]
 
 
 def is_full_by(bare, threes, hours):

@@ -15,7 +15,8 @@ def fitting(rooms, records):
 def sure_doors(rooms, records):
     need_records(rooms, records)
     found = doors_of_houses(rooms, records)
-    return [pair for pair in combinations(sorted(rooms), 2) if all([pair in doors for doors in found])]
+    names = sorted(rooms)
+    return [pair for pair in combinations(names, 2) if all([pair in doors for doors in found])]
 
 
 def possible_doors(rooms, records):

@@ -23,7 +23,7 @@ def find_shapes(rooms):
     """Tell all shapes of houses with rooms, which are ascending: ascending by the doors of their plain houses."""
     found = {}
     pairs = list(combinations(rooms, 2))
-    for doors in combinations(pairs, len(rooms) - 1):
+    for doors in combinations(pairs, int(len(rooms) - 1)):
         # Doors less one than rooms, and no ring, join all.
         if doors_fault(rooms, doors) is None:
             house = House(rooms, doors)
