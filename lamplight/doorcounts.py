@@ -5,7 +5,7 @@ from lamplight.ends import need_all_lit
 from lamplight.entrystamps import need_lighting
 from lamplight.errors import BadCounted
 from lamplight.kinds import is_positive
-from lamplight.ways import climb, towards
+from lamplight.ways import towards
 
 
 def counters(house, carrying):
@@ -40,7 +40,7 @@ def counted_carrying(house, ledger, counted):
     if not pairs:
         return None
     first, last = pairs[0]
-    return carrying_by(house, ledger, passes_by(house, counted, first, last), first, last, {})
+    return carrying_by(house, ledger, passes_by(house, counted, last), first, last, {})
 
 
 def is_counted_some(house, thing):
@@ -87,14 +87,13 @@ def find_ends_with(house, hours, counted):
     return told
 
 
-def passes_by(house, counted, first, last):
-    """Tell the passes from first to last that go through each door as often as counters tell."""
-    steps = towards(house, last)
-    ahead = climb(steps, first)
+def passes_by(house, counted, last):
+    """Tell the passes to last that go through each door as often as counters tell."""
     told = {}
-    for room, step in steps.items():
+    for room, step in towards(house, last).items():
         if step is not None:
             many = counter_of(counted, room, step)
-            told[(room, step)] = (many + (1 if room in ahead else 0)) // 2
-            told[(step, room)] = many - told[(room, step)]
+            # The odd ones are on the way, and gone through once more towards last.
+            told[(room, step)] = (many + 1) // 2
+            told[(step, room)] = many // 2
     return told

@@ -3,21 +3,16 @@
 from math import comb
 from lamplight.counting import count_all_of, count_to, ends_table
 from lamplight.endedrows import find_ended, join_ended
-from lamplight.errors import BadNumber, NoDoor
+from lamplight.errors import NoDoor
 from lamplight.evenly import chances_by, mean_by, need_drawn
 from lamplight.houses import need_room
-from lamplight.kinds import is_number
 from lamplight.ledgers import find_lit
 from lamplight.numbering import carrying_at
 
 
 def drawn_by(house, ledger, chooser):
     need_drawn(house, ledger)
-    many = count_all_of(house, ledger)
-    number = chooser(many)
-    if not is_number(number) or number >= many:
-        raise BadNumber(number)
-    return carrying_at(house, ledger, number)
+    return carrying_at(house, ledger, chooser(count_all_of(house, ledger)))
 
 
 def ends_chances(house, ledger):

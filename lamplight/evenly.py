@@ -2,13 +2,11 @@
 
 from math import gcd
 from lamplight.errors import NoCarrying
-from lamplight.ledgers import need_ledger
 from lamplight.onelaw import paper_of
 
 
 def need_drawn(house, ledger):
     """Refuse what is no ledger, or none of a carrying."""
-    need_ledger(house, ledger)
     paper = paper_of(house, ledger)
     if paper is not None:
         raise NoCarrying(paper)

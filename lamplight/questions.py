@@ -17,7 +17,7 @@ MOST_HOURS = 20
 
 def is_question_of(house, thing):
     """Tell of any object whether it is a question of a house."""
-    if not is_row(thing) or len(thing) == 0 or not isinstance(thing[0], str):
+    if not is_row(thing) or len(thing) == 0:
         return False
     if thing[0] in ALONE:
         return len(thing) == 1

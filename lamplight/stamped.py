@@ -43,8 +43,8 @@ def ends_by_all(house, ledger, marks, counted):
 
 
 def is_towards(house, marks, first, last):
-    """Tell whether last has a stamp towards first, which is another room."""
-    return first != last and marks[last] is not None and marks[last] in way_between(house, last, first)
+    """Tell whether last has a stamp towards first."""
+    return marks[last] in way_between(house, last, first)
 
 
 def find_stamped_ends(house, hours, marks):

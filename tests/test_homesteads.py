@@ -391,7 +391,7 @@ class HomesteadsTest(Checks):
             for name in "fedcba":
                 homestead.do(("build", name, [o for o in rows(house)[name] if homestead.now().has(o)][0]))
             for name, near in rows(house).items():
-                hours = len(near) - dice.choice((0, 1, 1, 1, 2))
+                hours = len(near) - dice.choice((0, 1, 1, 1, 2, 3))
                 if hours > 0:
                     homestead.do(("enter", name, hours))
             book = homestead.book()
@@ -471,7 +471,13 @@ class HomesteadsTest(Checks):
         self.assertEqual((told.now(), told.again()), (EXAMPLE, ("hold", ("holds",))))
 
     def test_equal(self):
-        unlike = [Homestead("b"), example().at(6)]
+        row = Homestead("a")
+        for name, at in ("ba", "cb", "dc"):
+            row.do(("build", name, at))
+        for name in "abcd":
+            row.do(("enter", name, 1))
+        unlike = [Homestead("b"), example().at(6), example(), row]
+        self.assertTrue(all(unlike[at] != other for at in range(4) for other in unlike[:at]))
         for deeds in ([("build", "e", "a")], [("enter", "a", 1)], [("watch", ("short",))], [("hold", ("short",))],
                       [("strike", "a", 1), ("set", "a")], [("watch", ("short",)), ("watch", ("holds",))],
                       [("watch", ("holds",)), ("watch", ("short",))]):

@@ -151,7 +151,7 @@ class HourChancesTest(Checks):
         for call in (room_chances, light_chances):
             self.check_things(NoRoom, no_rooms(), call, TWO_ROOMS, LEDGER, None)
         for thing in no_rooms():
-            self.check_error(NoRoom, {"thing": thing}, ahead_chance, TWO_ROOMS, LEDGER, thing, thing)
+            self.check_error(NoRoom, {"thing": thing}, ahead_chance, TWO_ROOMS, LEDGER, thing, 5)
             self.check_error(NoRoom, {"thing": thing}, ahead_chance, TWO_ROOMS, LEDGER, "a", thing)
         self.check_error(SameRoom, {"thing": "a"}, ahead_chance, TWO_ROOMS, LEDGER, "a", "a")
         self.check_error(SameRoom, {"thing": "c"}, ahead_chance, EXAMPLE, {"a": 1, "b": 1, "c": 0, "d": 0}, "c", "c")
