@@ -31,7 +31,7 @@ def plain_house(bare, threes):
     if len(rooms) > 2:
         wanted = wanted_doors(bare, threes)
         inner = [room for room in rooms if wanted[room] > 1]
-        doors = doors_by_threes(inner, threes) if threes else doors_in_row(inner)
+        doors = doors_by_threes(inner, threes)
         doors += doors_to_leaves([room for room in rooms if wanted[room] == 1], inner, wanted, doors)
     # Doors less one than rooms, and no ring, join all.
     if len(doors) != len(rooms) - 1 or doors_fault(rooms, doors) is not None:
@@ -58,7 +58,7 @@ def doors_in_row(rooms):
 def doors_by_threes(inner, threes):
     """Tell doors between inner rooms that let just these triples lie on no one way, as far as any do.
 
-    Rooms without a common triple have no branching room between them.
+    Rooms without a common triple have no branching room between them. Where no room is branching, all are one piece.
     """
     near = {room: nearest(inner, threes, room) for room in inner}
     branching = [room for room in inner if not are_all_near(near, near[room])]
@@ -75,9 +75,9 @@ def doors_by_threes(inner, threes):
 
 
 def nearest(inner, threes, room):
-    """Tell the other inner rooms that are in no triple with room."""
+    """Tell the inner rooms that are in no triple with room, it among them."""
     common = sorted(set([other for three in threes if room in three for other in three]))
-    return [other for other in inner if other != room and other not in common]
+    return [other for other in inner if other == room or other not in common]
 
 
 def are_all_near(near, rooms):
@@ -86,7 +86,7 @@ def are_all_near(near, rooms):
 
 def near_lots(rooms, near):
     """Tell the lots of rooms, ascending, that are near one another."""
-    lots = [[other for other in rooms if other == room or other in near[room]] for room in rooms]
+    lots = [[other for other in rooms if other in near[room]] for room in rooms]
     return [lot for room, lot in zip(rooms, lots) if lot[0] == room]
 
 

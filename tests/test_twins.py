@@ -7,6 +7,7 @@ from itertools import combinations, permutations, product
 from lamplight.added import is_full
 from lamplight.errors import UnlikeRooms
 from lamplight.houses import House
+from lamplight.plainhouses import is_full_by
 from lamplight.twins import (are_twins, bad_threes, bare_hours, parting_ledger, pieces_of, plain_twin, twin_count)
 from tests.brute import (EXAMPLE, ONE_ROOM, SPIDER, TWO_ROOMS, all_houses, as_ledger, full_rows, great_houses,
                          lie_on_one_way, random_house, row_house, rows, star_house, three_arms)
@@ -145,6 +146,19 @@ class TwinsTest(Checks):
         self.assertGreater(found[False], 100)
         self.assertGreater(found[True], 100)
 
+    def test_full_by_what_shows(self):
+        """Whether a ledger is full is told by fewest hours and threes alone."""
+        dice = random.Random(96)
+        found = {}
+        for house in [T, SPIDER, ONE_ROOM, TWO_ROOMS, EXAMPLE] + [random_house(list("hgfedcba"), seed) for seed in range(30)]:
+            for _ in range(40):
+                ledger = {room: max(1, len(near) - dice.choice((1, 1, 1, 0, 0, 2) if len(near) > 2 else (1, 0, 1)))
+                          for room, near in rows(house).items()}
+                told = is_full_by(bare_hours(house), bad_threes(house), ledger)
+                self.assertIs(told, is_full(house, ledger))
+                found[told] = found.get(told, 0) + 1
+        self.assertGreater(min(found.values()), 100)
+
     def test_pieces(self):
         self.assertEqual(pieces_of(LONG), [["b", "h"], ["c", "m"], ["f"], ["i"], ["l"]])
         for house in [T, SPIDER, LONG, ONE_ROOM, TWO_ROOMS, EXAMPLE, row_house(list("bdaec")), star_house(list("cabde"))]:
@@ -160,7 +174,14 @@ class TwinsTest(Checks):
                                          ("c", "z"), ("w", "v")])
         double = House(list("hgfedcbaij"), [("d", "e"), ("d", "a"), ("d", "b"), ("e", "c"), ("e", "f"), ("a", "g"),
                                             ("b", "h"), ("c", "i"), ("f", "j")])
-        for house in (T, SPIDER, wide, three_arms((2, 3, 2)), double):
+        between = House(list("abcdefghijpqx"), [("d", "p"), ("p", "q"), ("q", "e"), ("d", "a"), ("d", "b"), ("e", "c"),
+                                                ("e", "f"), ("a", "g"), ("b", "h"), ("c", "i"), ("f", "j"), ("q", "x")])
+        self.assertEqual(pieces_of(between), [["a"], ["b"], ["c"], ["f"], ["p", "q"]])
+        alone = House(list("abcdefghijpx"), [("d", "p"), ("p", "e"), ("d", "a"), ("d", "b"), ("e", "c"), ("e", "f"),
+                                             ("a", "g"), ("b", "h"), ("c", "i"), ("f", "j"), ("p", "x")])
+        three = House(list("abcdefghijklm"), [("a", "b"), ("b", "c"), ("a", "d"), ("a", "e"), ("b", "f"), ("c", "g"),
+                                              ("c", "h"), ("d", "i"), ("e", "j"), ("f", "k"), ("g", "l"), ("h", "m")])
+        for house in (T, SPIDER, wide, three_arms((2, 3, 2)), double, between, alone, three):
             there = twins_by_places(house)
             self.assertEqual(twin_count(house), len(there))
             plain = plain_twin(house)
