@@ -10,8 +10,6 @@ MOST_ENDS = 2
 
 
 def surrounding(one, other):
-    need_branch(one)
-    need_branch(other)
     ours = asks(one)
     theirs = asks(other)
     if ours == theirs:

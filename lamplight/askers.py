@@ -17,10 +17,10 @@ def best_question(rooms, records):
     splits = find_splits(rooms, shapes)
     known = {}
     least = fewest_questions(splits, all_of(shapes), known)
-    for ledger in all_questions(rooms) if least > 0 else []:
+    for ledger in all_questions(rooms):
         full = number_of_full(shapes, ledger)
         answers = [full, all_of(shapes) - full]
-        if 0 not in answers and max([fewest_questions(splits, some, known) for some in answers]) < least:
+        if max([fewest_questions(splits, some, known) for some in answers]) < least:
             return ledger
     return None
 
@@ -42,7 +42,7 @@ def beat_asker(rooms, records, asker, many):
         if not is_question(rooms, question):
             raise NoQuestion(question)
         full = number_of_full(shapes, question) & left
-        truth = left_behind(splits, full, known) >= left_behind(splits, left - full, known)
+        truth = fewest_questions(splits, full, known) >= fewest_questions(splits, left - full, known)
         left = full if truth else left - full
         told.append((in_order(rooms, question), truth))
     fits = [shape.plain for at, shape in enumerate(shapes) if left >> at & 1]
@@ -93,13 +93,11 @@ def find_splits(rooms, shapes):
     return sorted(set([number_of_full(shapes, ledger) for ledger in all_questions(rooms)]))
 
 
-def left_behind(splits, some, known):
-    """Tell how many questions are left for some shapes, less than any number for none."""
-    return fewest_questions(splits, some, known) if some > 0 else -1
-
-
 def fewest_questions(splits, some, known):
-    """Tell the fewest questions that part some shapes, whatever the answers are; known keeps what was found."""
+    """Tell the fewest questions that part some shapes, 0 for none, whatever the answers are.
+
+    What was found is kept in known.
+    """
     if some & (some - 1) == 0:
         return 0
     if some not in known:

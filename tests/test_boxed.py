@@ -173,6 +173,7 @@ class BoxedTest(Checks):
     def test_errors_of_boxed(self):
         self.check_things(BadRim, no_rooms() + ["a"], Boxed, FORK, None, 5)
         wrong = wrong_boxes(BOX) + [{**BOX, room: (0, 5)} for room in BOX] + [{**BOX, "r": (1, 1)}]
+        wrong += [{**BOX, "y": span} for span in ((1, True), (1, "1"), (1, None), (True, 2), (2, 1), (1,), (1, 1, 1), 1)]
         self.check_things(BadBox, wrong, Boxed, FORK, "r", None)
         self.check_things(BadBox, [thing for thing in any_objects() if thing != {}], Boxed, ONE_ROOM, "a", None)
 
@@ -188,6 +189,7 @@ class BoxedTest(Checks):
         for thing in any_objects() + [WIDE]:
             if not isinstance(thing, (list, tuple)):
                 self.check_error(BadBranches, {"index": 0}, going_count, WIDE, thing, 0)
+            self.check_error(BadBranches, {"index": 0}, going_count, WIDE, [thing], 0)
             self.check_error(BadBranches, {"index": 1}, going_count, WIDE, [ENDED, thing, None], 0)
         self.check_things(BadNumber, no_numbers(1), going_count, WIDE, [spider_branch()], None)
         self.check_things(BadNumber, no_numbers(1), going_count, WIDE, (), None)
