@@ -5,7 +5,7 @@ from lamplight.ways import towards
 
 
 def find_ended(house, hours, root):
-    """Tell of all rooms but root the three lists of rows that lie behind the door to them, seen from root.
+    """Tell of all rooms but root, which is lit, the three lists of rows that lie behind the door to them, seen from it.
 
     The list of an index has at k how many rows there are of k carryings that begin and end in the room, and of as
     many more as the index tells that have an end of the whole there: one ahead that begins anywhere behind the door,
@@ -16,7 +16,8 @@ def find_ended(house, hours, root):
     for room in reversed(list(steps)):
         if room != root:
             branches = [told[other] for other in house.near(room) if other != steps[room]]
-            told[room] = ended_at(hours[room], branches) if hours[room] > 0 else dark_rows(branches)
+            # Lit rooms hang together, so that behind a dark one all are dark.
+            told[room] = ended_at(hours[room], branches) if hours[room] > 0 else ([1], [0], [0])
     return told
 
 
@@ -30,10 +31,6 @@ def ended_at(hours, branches):
         [count_cut(hours, many, begun) for many in range(hours)] + [0],
         [count_cut(hours, many + 1, both) for many in range(hours - 1)] + [0, 0],
     )
-
-
-def dark_rows(branches):
-    return ([1 if all([rows[0][0] == 1 for rows in branches]) else 0], [0], [0])
 
 
 def join_ended(branches, most):
