@@ -76,6 +76,34 @@ def twins_by_places(house):
     return told
 
 
+def plain_by_words(house):
+    """[98] word by word: the plain twin by the house's own doors."""
+    near = rows(house)
+    if len(house) < 3:
+        return house
+    inside = inner_near(house)
+    branching = [room for room in inside if len(inside[room]) > 2]
+    if branching:
+        wanted = {room: len(near[room]) for room in near}
+        chains = [list(pair) for pair in combinations(branching, 2) if pair[1] in near[pair[0]]]
+        for piece in pieces_by_words(house):
+            outer = [room for room in branching if any(room in near[other] for other in piece)]
+            chains.append(outer[:1] + piece + outer[1:])
+    else:
+        great = [room for room in near if len(near[room]) > 2]
+        others = [room for room in near if room not in great]
+        # So many of the others have two doors as make all doors twice the rooms less two.
+        two = 2 * len(house) - 2 - sum(len(near[room]) for room in great) - len(others)
+        wanted = {room: len(near[room]) if room in great else 2 if room in others[:two] else 1 for room in near}
+        chains = [[room for room in near if wanted[room] > 1]]
+    doors = [door for chain in chains for door in zip(chain, chain[1:])]
+    leaves = [room for room in near if wanted[room] == 1]
+    for room in [each for each in near if wanted[each] > 1]:
+        while sum(room in door for door in doors) < wanted[room]:
+            doors.append((room, leaves.pop(0)))
+    return House(house.rooms(), doors)
+
+
 class TwinsTest(Checks):
     def test_example(self):
         self.assertEqual(bad_threes(T), [("a", "b", "c")])
@@ -225,6 +253,19 @@ class TwinsTest(Checks):
         self.assertEqual([plain_twin(house) for house in (ONE_ROOM, TWO_ROOMS)], [ONE_ROOM, TWO_ROOMS])
         self.assertEqual([twin_count(house) for house in (ONE_ROOM, TWO_ROOMS)], [1, 1])
         self.assertEqual([bare_hours(house) for house in (ONE_ROOM, TWO_ROOMS)], [{"a": 1}, {"a": 1, "b": 1}])
+
+    def test_plain_twins_by_words(self):
+        houses = [T, SPIDER, LONG, ONE_ROOM, TWO_ROOMS, EXAMPLE] + great_houses(9) + great_houses(12)
+        houses += [house for many in (3, 4, 5) for house in all_houses(list("edcba")[:many])]
+        for seed in range(300):
+            dice = random.Random(seed)
+            names = [f"r{k}" for k in range(dice.choice((6, 7, 8, 10, 12)))]
+            houses.append(changed_places(random_house(names, seed), dict(zip(names, dice.sample(names, len(names))))))
+        branching = 0
+        for house in houses:
+            self.assertEqual(plain_twin(house), plain_by_words(house), house.doors())
+            branching += bool(pieces_of(house))
+        self.assertGreater(branching, 60)
 
     def test_errors(self):
         pairs = [(EXAMPLE, TWO_ROOMS, "c"), (TWO_ROOMS, EXAMPLE, "c"), (row_house(list("bc")), TWO_ROOMS, "a"),
